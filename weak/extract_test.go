@@ -1,6 +1,7 @@
 package weak_test
 
 import (
+	"slices"
 	"testing"
 
 	"guilloche/api"
@@ -9,6 +10,7 @@ import (
 	"guilloche/node"
 	"guilloche/proof"
 	"guilloche/sha"
+	"guilloche/span"
 )
 
 // way are the nodes on the way to a key, looked for among those of a map by what they are referred to as.
@@ -68,6 +70,42 @@ func TestExtractOfProofs(t *testing.T) {
 				}
 				if x, y, is := twins(nodes, own); p != x || q != y || !ok || !is || !sha.Collide(p, q) {
 					t.Fatalf("Extract(%v, %q) = %x, %x, %v", a, key, p, q, ok)
+				}
+			}
+		}
+	}
+	if met < 100 || deep < 10 {
+		t.Fatal("too few wrong proofs", met, deep)
+	}
+}
+
+func TestExtractOfSpans(t *testing.T) {
+	needsWeak(t)
+	all := maps()
+	hashes := roots(all)
+	met, deep := 0, 0
+	for i, a := range all {
+		for j, b := range all {
+			if hashes[i] != hashes[j] || i == j || (i+j)%3 > 0 {
+				continue
+			}
+			own, _ := canon.Nodes(a)
+			nodes, _ := canon.Nodes(b)
+			for _, ends := range []span.Ends{{To: "\xff"}, {From: "k", To: "k1"}, {From: "a", To: "a"}} {
+				told, err := span.Verify(hashes[i], ends, nodes)
+				wrong := err == api.OK && !slices.Equal(told, span.Between(a, ends))
+				p, q, ok := span.Extract(a, ends, nodes)
+				if !wrong {
+					if p != "" || q != "" || ok {
+						t.Fatalf("%x and %x are told, but nothing is wrong", p, q)
+					}
+					continue
+				}
+				if met++; nodes[0] == own[0] {
+					deep++
+				}
+				if x, y, is := twins(nodes, own); p != x || q != y || !ok || !is || !sha.Collide(p, q) {
+					t.Fatalf("Extract(%v, %v) = %x, %x, %v", a, ends, p, q, ok)
 				}
 			}
 		}
