@@ -107,7 +107,7 @@ func TestWhatMayNotBe(t *testing.T) {
 		ext("\x01", smallLeaf), ext("\x01", "\xd5\x11"+smallBranch), ext("\x01", "x"), ext("\x01", "\xc0"), ext("\x01", byHash(1)+"x"), ext("\x01", byHash(1)[:32]),
 		valued(ext("\x01", byHash(1)), "v"), filled(ext("\x01", byHash(1)), 1, byHash(2)), filled(ext("\x01", byHash(1)), 15, smallBranch),
 		filled(ext("\x01", ""), 1, byHash(1)), filled(ext("\x01", smallBranch), 0, large),
-		{Kind: api.Branch}, branch("v", nil), branch("", map[int]string{0: smallLeaf}), branch("", map[int]string{15: byHash(1)}),
+		{Kind: api.Branch}, branch("v", nil), branch(text(80), nil), branch("", map[int]string{0: smallLeaf}), branch("", map[int]string{15: byHash(1)}),
 		branch(text(81), two), pathed(branch("", two), "\x01"), branch("v", map[int]string{0: "x"}), branch("v", map[int]string{3: "\x80"}),
 		branch("", map[int]string{0: smallLeaf, 1: large}), branch("v", map[int]string{0: smallLeaf, 15: "\xc0"}), branch("v", map[int]string{0: byHash(1) + "x"}),
 		branch("v", map[int]string{0: strings.Repeat("h", 33)}), branch("v", map[int]string{0: strings.Repeat("h", 32)}), branch("v", map[int]string{0: "\xc2\x31\x80"}),
