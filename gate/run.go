@@ -7,20 +7,7 @@ import (
 
 	"guilloche/api"
 	"guilloche/frame"
-)
-
-// The kinds of asks.
-const (
-	open = iota
-	get
-	iterate
-	prove
-	proveRange
-	subscribe
-	unsubscribe
-	repin
-	renew
-	release
+	"guilloche/kinds"
 )
 
 // arrive takes a frame from the network.
@@ -48,12 +35,12 @@ func (g *Gate) arrive(s *Step, text string) {
 
 // isLate tells whether an ask came behind one that should be run behind it; opens have no order.
 func isLate(queue []api.Ask, a api.Ask) bool {
-	return a.Kind != open && len(queue) > 0 && queue[len(queue)-1].Seq > a.Seq
+	return a.Kind != kinds.Open && len(queue) > 0 && queue[len(queue)-1].Seq > a.Seq
 }
 
 // kept is the reply to an ask that was run already; ErrNone, if it was not.
 func (g *Gate) kept(a api.Ask) (string, api.Errno) {
-	if a.Kind == open {
+	if a.Kind == kinds.Open {
 		at := slices.IndexFunc(g.opens, func(o answer) bool { return o.seq == a.Seq })
 		if at < 0 {
 			return "", api.ErrNone
@@ -79,7 +66,7 @@ func (g *Gate) run(s *Step, a api.Ask) {
 		}
 		g.reply(s, a, r)
 	}()
-	if a.Kind == open {
+	if a.Kind == kinds.Open {
 		r, err = g.open(a.At)
 		return
 	}
@@ -97,12 +84,12 @@ func (g *Gate) reply(s *Step, a api.Ask, r api.Reply) {
 	text, _ := frame.PutReply(r)
 	g.emit(s, text)
 	switch a.Kind {
-	case open:
+	case kinds.Open:
 		g.opens = append(g.opens, answer{a.Seq, text})
 		if old := len(g.opens) - keptOpens; old > 0 {
 			g.opens = slices.Delete(g.opens, 0, old)
 		}
-	case release:
+	case kinds.Release:
 		g.drain(s, a.Session, api.ErrSession)
 	default:
 		g.table.Store(a.Session, a.Seq, text)
@@ -135,30 +122,30 @@ func (g *Gate) version(block int) (api.Reply, api.Errno) {
 func (g *Gate) answer(a api.Ask, block int) (api.Reply, api.Errno) {
 	r, err := g.version(block)
 	switch a.Kind {
-	case get:
+	case kinds.Get:
 		r.Entries = g.entry(block, a.Key)
-	case iterate:
+	case kinds.Iterate:
 		r.Entries, r.More, err = g.chain.Range(block, a.Key, behindAll(), a.Limit)
-	case proveRange:
+	case kinds.ProveRange:
 		if a.Key > a.To {
 			return r, api.ErrMalformed
 		}
 		fallthrough
-	case prove:
+	case kinds.Prove:
 		if r.Proof, r.More, err = g.proof(a, block); len(r.Proof) > api.MaxFrame {
 			err = api.ErrLarge
 		}
-	case subscribe:
+	case kinds.Subscribe:
 		g.feed.Subscribe(a.Session)
 		blocks := g.chain.Blocks()
 		return g.version(blocks[len(blocks)-1])
-	case unsubscribe:
+	case kinds.Unsubscribe:
 		g.feed.Unsubscribe(a.Session)
-	case repin:
+	case kinds.Repin:
 		return g.repin(a)
-	case renew:
+	case kinds.Renew:
 		err = g.table.Renew(a.Session, g.clock)
-	case release:
+	case kinds.Release:
 		err = g.release(a.Session)
 	}
 	return r, err
@@ -178,7 +165,7 @@ func (g *Gate) entry(block int, key string) []api.Entry {
 
 // proof is that of a key, or of a range and whether there is more.
 func (g *Gate) proof(a api.Ask, block int) (string, bool, api.Errno) {
-	if a.Kind == proveRange {
+	if a.Kind == kinds.ProveRange {
 		return g.chain.ProveRange(block, a.Key, a.To, a.Limit)
 	}
 	text, err := g.chain.Prove(block, a.Key)

@@ -7,31 +7,12 @@ import (
 	"guilloche/canon"
 	"guilloche/frame"
 	"guilloche/gate"
+	"guilloche/kinds"
 	"guilloche/model"
 	"guilloche/proof"
 	"guilloche/span"
 	"guilloche/store"
 	"guilloche/wire"
-)
-
-// The kinds of asks.
-const (
-	open = iota
-	get
-	iterate
-	prove
-	proveRange
-	subscribe
-	unsubscribe
-	repin
-	renew
-	release
-)
-
-// The kinds of papers.
-const (
-	ofKey = iota
-	ofRange
 )
 
 // mostOpened is the last Id that a session may have.
@@ -85,7 +66,7 @@ func (p *player) reply(a api.Ask) string {
 
 // answer answers an ask that may be.
 func (p *player) answer(a api.Ask) (api.Reply, api.Errno) {
-	if a.Kind == open {
+	if a.Kind == kinds.Open {
 		return p.open(a.At)
 	}
 	block, ok := p.sessions[a.Session]
@@ -93,15 +74,15 @@ func (p *player) answer(a api.Ask) (api.Reply, api.Errno) {
 		return api.Reply{}, api.ErrSession
 	}
 	answers := map[int]func(*api.Reply, api.Ask) api.Errno{
-		get:         p.get,
-		iterate:     p.iterate,
-		prove:       p.prove,
-		proveRange:  p.proveRange,
-		subscribe:   p.subscribe,
-		unsubscribe: p.stay,
-		repin:       p.repin,
-		renew:       p.stay,
-		release:     p.release,
+		kinds.Get:         p.get,
+		kinds.Iterate:     p.iterate,
+		kinds.Prove:       p.prove,
+		kinds.ProveRange:  p.proveRange,
+		kinds.Subscribe:   p.subscribe,
+		kinds.Unsubscribe: p.stay,
+		kinds.Repin:       p.repin,
+		kinds.Renew:       p.stay,
+		kinds.Release:     p.release,
 	}
 	r := p.version(block)
 	r.Session = a.Session
@@ -186,7 +167,7 @@ func (p *player) prove(r *api.Reply, a api.Ask) api.Errno {
 	if err != api.OK {
 		return err
 	}
-	return show(r, wire.Paper{Kind: ofKey, Root: root, Key: a.Key, Nodes: nodes})
+	return show(r, wire.Paper{Kind: kinds.OfKey, Root: root, Key: a.Key, Nodes: nodes})
 }
 
 // proveRange proves what is in a range, up to the last entry that is told.
@@ -206,7 +187,7 @@ func (p *player) proveRange(r *api.Reply, a api.Ask) api.Errno {
 		return err
 	}
 	r.More = more
-	return show(r, wire.Paper{Kind: ofRange, Root: root, Key: ends.From, To: ends.To, Nodes: nodes})
+	return show(r, wire.Paper{Kind: kinds.OfRange, Root: root, Key: ends.From, To: ends.To, Nodes: nodes})
 }
 
 // laid is a store that has the nodes of a map alone, and its root there.
